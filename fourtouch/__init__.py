@@ -1,0 +1,1 @@
+"""Fourtouch: circles that touch by fours."""

@@ -1,0 +1,126 @@
+"""The form of the package: the interface stands where it belongs, and the simple rules of the language hold."""
+
+import ast
+import inspect
+import unittest
+from importlib import import_module
+from pathlib import Path
+
+PACKAGE = Path(__file__).resolve().parent.parent / "fourtouch"
+
+# For each file its functions, and its classes with their methods, each with its parameters.
+INTERFACE = {
+    "circles": {
+        "is_circle": "(circle)", "check_circle": "(circle)", "is_line": "(circle)", "opposite": "(circle)",
+        "double": "(one, other)", "touch": "(one, other)", "relation": "(one, other)", "fraction": "(number, other)",
+        "centre": "(circle)", "radius": "(circle)", "side": "(circle, point)",
+    },
+    "fours": {
+        "check_number": "(number)", "Four": "(circles)", "Four.curvatures": "(self)", "Four.circle": "(self, number)",
+        "Four.number_of": "(self, circle)", "Four.other": "(self, number)", "Four.exchanged": "(self, number)",
+        "Four.is_root": "(self)", "Four.is_strip": "(self)", "Four.with_order": "(self, order)",
+        "Four.ordered": "(self)", "Four.has_same": "(self, other)",
+    },
+    "notation": {"format_four": "(four)", "parse_four": "(text)"},
+    "words": {
+        "check_word": "(word)", "is_reduced": "(word)", "reduced": "(word)", "joined": "(one, other)",
+        "backwards": "(word)", "core_of": "(word)", "repeated": "(word, times, *, limit=2000)",
+        "order_of": "(word)", "word_count": "(length)", "words_of": "(length, *, limit=2000)",
+    },
+    "walks": {
+        "four_at": "(four, word)", "fours_along": "(four, word)", "circles_along": "(four, word)",
+        "circle_at": "(four, word)", "is_quadruple": "(curvatures)", "curvatures_at": "(curvatures, word)",
+        "curvatures_along": "(curvatures, word)",
+    },
+    "matrices": {
+        "matrix_of": "(word)", "product": "(one, other)", "applied": "(matrix, numbers)", "power": "(matrix, times)",
+        "power_modulo": "(matrix, times, modulus)", "curvatures_after": "(curvatures, word, times)",
+        "curvatures_modulo": "(curvatures, word, times, modulus)", "word_of": "(matrix)",
+    },
+    "errors": {
+        "FourtouchError": None, "InvalidCircle": None, "InvalidFour": None, "InvalidWord": None,
+        "InvalidQuestion": None, "NothingToUndo": None, "NothingToRedo": None, "UnknownName": "(name)",
+        "InvalidNotation": "(line)", "InvalidPaper": "(line)", "TooMany": "(limit)", "NotThere": "(step)",
+        "NameInUse": "(name)",
+    },
+}
+LIBRARY = {"math": {"gcd", "isqrt", "lcm"}}
+BANNED = (
+    ast.AsyncFunctionDef, ast.Global, ast.Import, ast.AnnAssign, ast.Div, ast.MatMult, ast.SetComp, ast.Await,
+)
+
+
+def package_files():
+    return sorted(PACKAGE.glob("*.py"))
+
+
+def trees():
+    return [(path, ast.parse(path.read_text(encoding="utf-8"))) for path in package_files()]
+
+
+class Interface(unittest.TestCase):
+    def test_names_and_arguments(self):
+        for file, names in INTERFACE.items():
+            module = import_module("fourtouch." + file)
+            for name, told in names.items():
+                value = module
+                for part in name.split("."):
+                    value = vars(value)[part]
+                self.assertEqual(value.__module__, "fourtouch." + file, name)
+                if told is not None:
+                    self.assertEqual(str(inspect.signature(value)), told, name)
+
+    def test_the_package_itself_defines_nothing(self):
+        tree = ast.parse((PACKAGE / "__init__.py").read_text(encoding="utf-8"))
+        for statement in tree.body:
+            self.assertIsInstance(statement, ast.Expr)
+            self.assertIsInstance(statement.value.value, str)
+
+
+class Language(unittest.TestCase):
+    def test_sizes_and_characters(self):
+        for path in package_files():
+            text = path.read_text(encoding="utf-8")
+            lines = text.split("\n")
+            self.assertLessEqual(len(lines), 399, path)
+            self.assertLessEqual(max(map(len, lines)), 120, path)
+            self.assertTrue(all(letter == "\n" or " " <= letter <= "~" for letter in text), path)
+
+    def test_only_python_files(self):
+        names = {path.suffix for path in PACKAGE.iterdir() if path.name != "__pycache__"}
+        self.assertEqual(names, {".py"})
+
+    def test_sizes_of_functions(self):
+        for path, tree in trees():
+            for node in ast.walk(tree):
+                if isinstance(node, ast.FunctionDef):
+                    self.assertLessEqual(node.end_lineno - node.lineno + 1, 40, (path, node.name))
+                    self.assertEqual(node.decorator_list, [], (path, node.name))
+
+    def test_imports(self):
+        for path, tree in trees():
+            for node in ast.walk(tree):
+                if isinstance(node, ast.ImportFrom):
+                    names = {alias.name for alias in node.names}
+                    self.assertIn(node, tree.body)
+                    self.assertEqual(node.level, 0)
+                    self.assertTrue(all(alias.asname is None for alias in node.names))
+                    if node.module in LIBRARY:
+                        self.assertLessEqual(names, LIBRARY[node.module], path)
+                    else:
+                        own = ast.parse((PACKAGE / (node.module.removeprefix("fourtouch.") + ".py")).read_text())
+                        defined = {getattr(part, "name", None) for part in own.body}
+                        self.assertLessEqual(names, defined, path)
+
+    def test_nothing_that_is_barred(self):
+        for path, tree in trees():
+            for node in ast.walk(tree):
+                self.assertNotIsInstance(node, BANNED, (path, getattr(node, "lineno", 0)))
+                if isinstance(node, ast.Constant):
+                    self.assertNotIsInstance(node.value, (float, complex), path)
+                    if isinstance(node.value, str):
+                        self.assertNotIn("%", node.value, path)
+
+
+if __name__ == "__main__":
+    unittest.main()
