@@ -4,7 +4,6 @@ from fourtouch.errors import InvalidQuestion
 from fourtouch.walks import check_quadruple, rows_at
 
 IDENTITY = ((1, 0, 0, 0), (0, 1, 0, 0), (0, 0, 1, 0), (0, 0, 0, 1))
-IDENTITY_SUM = 4
 
 
 def matrix_of(word):
@@ -82,15 +81,12 @@ def curvatures_modulo(curvatures, word, times, modulus):
 def first_number(matrix):
     """Return the number that a reduced word with this matrix must begin with, or None.
 
-    It is that of the only column with numbers below 0. The sum of all numbers
-    becomes less without it, which is so if the sum of the column is below 0, and
-    it never falls below that of the matrix of no exchange: so a search ends.
+    It is that of the only column with numbers below 0, and without it the sum of
+    all numbers becomes less, which is so exactly if the sum of the column is below 0.
     """
     columns = list(zip(*matrix))
     below = [at for at in range(4) if min(columns[at]) < 0]
     if len(below) != 1 or sum(columns[below[0]]) >= 0:
-        return None
-    if sum([sum(row) for row in matrix]) <= IDENTITY_SUM:
         return None
     return below[0] + 1
 
@@ -99,6 +95,8 @@ def word_of(matrix):
     """Return the reduced word of a matrix, or None if it is that of no word."""
     word = []
     rows = tuple([tuple(row) for row in matrix])
+    # The sum of all numbers becomes less with each number. Once it is below 0, three columns get
+    # numbers below 0 by the next one, so this ends for every matrix.
     while rows != IDENTITY:
         number = first_number(rows)
         if number is None:

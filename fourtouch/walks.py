@@ -30,7 +30,8 @@ def four_at(four, word):
 
 def fours_along(four, word):
     """Return the list of a Four and of the Fours behind each exchange of a word."""
-    return [Four(Proved(circles)) for circles in rows_along(four.circles, word)]
+    behind = rows_along(four.circles, word)[1:]
+    return [four] + [Four(Proved(circles)) for circles in behind]
 
 
 def circles_along(four, word):

@@ -1,7 +1,6 @@
 import unittest
 from fractions import Fraction
 
-from fourtouch import circles
 from fourtouch.circles import (
     centre, check_circle, double, fraction, is_circle, is_line, opposite, radius, relation, side, touch,
 )
@@ -122,7 +121,7 @@ class CentresAndRadii(unittest.TestCase):
         self.assertIs(radius([4, 2, 3, 0]).__class__, tuple)
 
     def test_lines_have_none(self):
-        for line in (LINE, (0, 0, -1, 0), (0, 5, 0, 1), [0, -3, 0, -1]):
+        for line in (LINE, (0, 2, 0, 1), (0, 0, -1, 0), (0, 5, 0, 1), [0, -3, 0, -1]):
             self.assertIs(error_of(centre, line).__class__, InvalidQuestion)
             self.assertIs(error_of(radius, line).__class__, InvalidQuestion)
 
@@ -301,7 +300,7 @@ class Relations(unittest.TestCase):
             action(one)
         side(one, ((2, 4), (1, 3)))
         self.assertEqual((one, other), ([2, 0, 1, 0], [-1, 1, 0, 0]))
-        self.assertEqual(circles.opposite(circles.opposite(one)), tuple(one))
+        self.assertEqual(opposite(opposite(one)), tuple(one))
 
 
 if __name__ == "__main__":

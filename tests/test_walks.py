@@ -36,8 +36,10 @@ class FoursAtWords(unittest.TestCase):
     def test_fours_along(self):
         for root in ROOTS[::2]:
             for word in words_up_to(3)[::3]:
-                fours = fours_along(Four(root), list(word))
+                start = Four(root)
+                fours = fours_along(start, list(word))
                 self.assertIs(fours.__class__, list)
+                self.assertIs(fours[0], start)
                 self.assertEqual(len(fours), len(word) + 1)
                 for at, four in enumerate(fours):
                     self.assertIs(four.__class__, Four)

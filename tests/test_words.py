@@ -1,11 +1,11 @@
 import unittest
 
 from fourtouch.errors import InvalidQuestion, InvalidWord, TooMany
+from fourtouch.fours import Four
 from fourtouch.words import (
     backwards, check_word, core_of, is_reduced, joined, order_of, reduced, repeated, word_count, words_of,
 )
 from tests.helper import ROOTS, all_reduced, all_words, bugeye, error_of, reduced_up_to, walked, words_up_to
-from fourtouch.fours import Four
 
 NO_WORDS = (
     (0,), (5,), (-1,), (1, 2, 0), (1, 2, 3, 4, 5), (True,), (1, True), (False,), ("1",), (None,), ((1,),), ([1],),
@@ -42,7 +42,11 @@ class WhatIsAWord(unittest.TestCase):
 
     def test_something_else_than_a_tuple_or_list(self):
         for none in (None, 1, "", "12", {}, {1: 2}):
-            self.assertIs(error_of(check_word, none).__class__, InvalidWord, none)
+            for action in (check_word, is_reduced, reduced, backwards, core_of, order_of):
+                self.assertIs(error_of(action, none).__class__, InvalidWord, none)
+            self.assertIs(error_of(joined, none, (1,)).__class__, InvalidWord, none)
+            self.assertIs(error_of(joined, (1,), none).__class__, InvalidWord, none)
+            self.assertIs(error_of(repeated, none, 2).__class__, InvalidWord, none)
 
     def test_a_word_that_is_none_comes_ahead_of_the_limit(self):
         self.assertIs(error_of(repeated, (1, 2, 3, 9), 5, limit=0).__class__, InvalidWord)
@@ -127,12 +131,8 @@ class HeadsAndCores(unittest.TestCase):
     def test_orders(self):
         for word in words_up_to(5):
             times = order_of(word)
-            power = ()
             returns = [many for many in range(1, 7) if not reduced(word * many)]
             self.assertEqual(times, returns[0] if returns else None)
-            if times is not None:
-                power = word * times
-            self.assertEqual(reduced(power), ())
 
     def test_orders_of_roots(self):
         for root in ROOTS:
@@ -153,6 +153,14 @@ class Repeated(unittest.TestCase):
                 self.assertEqual(repeated(word, -times), reduced(word[::-1] * times))
             self.assertIs(repeated(list(word), 3).__class__, tuple)
             self.assertEqual(repeated(list(word), -2), repeated(word, -2))
+
+    def test_long_heads(self):
+        for head in ((1, 2), (1, 2, 3), (4, 1, 4, 2), (3, 1, 2, 4, 1)):
+            for core in ((3, 4), (4, 3, 1), (3, 1, 2), (3, 4, 3, 1), (4,), (3,), ()):
+                word = head + core + head[::-1]
+                for times in range(-4, 5):
+                    expected = reduced((word if times > 0 else word[::-1]) * abs(times))
+                    self.assertEqual(repeated(word, times), expected)
 
     def test_great_numbers_of_times(self):
         great = 10 ** 30
@@ -214,6 +222,13 @@ class Lists(unittest.TestCase):
             error = error_of(words_of, length, limit=count - 1)
             self.assertIs(error.__class__, TooMany)
             self.assertEqual(error.limit, count - 1)
+
+    def test_the_limit_is_the_count_of_a_lesser_length(self):
+        for length in range(1, 8):
+            for lesser in range(length):
+                error = error_of(words_of, length, limit=word_count(lesser))
+                self.assertIs(error.__class__, TooMany)
+                self.assertEqual(error.limit, word_count(lesser))
 
     def test_the_limit_that_is_not_given(self):
         self.assertEqual(len(words_of(6)), 972)
