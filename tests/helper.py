@@ -66,3 +66,26 @@ def error_of(action, *arguments, **named):
     except Exception as error:
         return error
     return None
+
+
+def laid_circle(circle, flip, quarters, s, t):
+    """A circle mirrored if the flip is 1, then turned by quarters to the left, then moved."""
+    b, c, x, y = circle
+    if flip:
+        x = -x
+    for _ in range(quarters):
+        x, y = -y, x
+    return (b, c + 2 * (x * s + y * t) + b * (s * s + t * t), x + b * s, y + b * t)
+
+
+def laid(four, flip, quarters, s, t):
+    """A four laid elsewhere, its circles in their order."""
+    return Four([laid_circle(circle, flip, quarters, s, t) for circle in four.circles])
+
+
+def heap_circles(four, length):
+    """The circles of a heap with addresses up to a length: a dict of (address, number)."""
+    found = {circle: ((), at) for at, circle in enumerate(four.circles, start=1)}
+    for word in reduced_up_to(length)[1:]:
+        found[walked(four, word).circle(word[-1])] = (word, word[-1])
+    return found

@@ -37,6 +37,20 @@ INTERFACE = {
         "power_modulo": "(matrix, times, modulus)", "curvatures_after": "(curvatures, word, times)",
         "curvatures_modulo": "(curvatures, word, times, modulus)", "word_of": "(matrix)",
     },
+    "roots": {
+        "way_down": "(four)", "root_of": "(four)", "root_curvatures": "(four)", "alike_heaps": "(one, other)",
+        "heap_paper": "(one, other)", "check_heap_paper": "(one, other, told)",
+    },
+    "addresses": {
+        "coordinates": "(four, circle)", "address_of": "(four, circle)", "is_there": "(four, circle)",
+        "same_heap": "(one, other)", "word_between": "(one, other)", "absence": "(four, circle)",
+        "check_absence": "(four, circle, word)",
+    },
+    "touching": {
+        "circle_by": "(four, number, pair)", "pair_of": "(four, number, circle)", "form_of": "(four, number)",
+        "curvature_by": "(four, number, pair)", "are_neighbours": "(one, other)",
+        "four_by": "(four, number, one, other)", "common_neighbours": "(one, other)",
+    },
     "errors": {
         "FourtouchError": None, "InvalidCircle": None, "InvalidFour": None, "InvalidWord": None,
         "InvalidQuestion": None, "NothingToUndo": None, "NothingToRedo": None, "UnknownName": "(name)",
