@@ -35,11 +35,16 @@ def pair_sum(one, other, times):
     return (one[0] + times * other[0], one[1] + times * other[1])
 
 
+def negative(pair):
+    """Return the negative of a pair."""
+    return (-pair[0], -pair[1])
+
+
 def as_told(pair):
     """Return the one of a pair and its negative that is told."""
     p, q = pair
     if p < 0 or (p == 0 and q < 0):
-        return (-p, -q)
+        return negative(pair)
     return (p, q)
 
 

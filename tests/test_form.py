@@ -51,6 +51,25 @@ INTERFACE = {
         "curvature_by": "(four, number, pair)", "are_neighbours": "(one, other)",
         "four_by": "(four, number, one, other)", "common_neighbours": "(one, other)",
     },
+    "around": {
+        "pairs_to": "(four, number, most, *, limit=2000)", "least_around": "(four, number)", "chain": "(one, other)",
+        "steps_between": "(one, other)", "is_chain": "(pairs)",
+    },
+    "names": {"is_name": "(text)"},
+    "lists": {
+        "circles_up_to": "(four, most, *, limit=2000)", "curvatures_up_to": "(four, most, *, limit=2000)",
+        "circles_of": "(four, curvature, *, limit=2000)", "curvature_behind": "(four, curvature, *, limit=2000)",
+        "first_circles": "(four, many, *, limit=2000)", "neighbours_of": "(four, circle, most, *, limit=2000)",
+        "covers": "(four, circles, *, limit=2000)",
+    },
+    "catalogue": {
+        "decide": "(kind, fours, most=None)", "Catalogue": "()", "Catalogue.set_four": "(self, name, four)",
+        "Catalogue.walk": "(self, name, word)", "Catalogue.remove_four": "(self, name)",
+        "Catalogue.ask": "(self, name, kind, names, most=None)", "Catalogue.drop": "(self, name)",
+        "Catalogue.undo": "(self)", "Catalogue.redo": "(self)", "Catalogue.change_all": "(self, changes)",
+        "Catalogue.four_names": "(self)", "Catalogue.question_names": "(self)", "Catalogue.four": "(self, name)",
+        "Catalogue.question": "(self, name)", "Catalogue.answer": "(self, name)", "Catalogue.answers": "(self)",
+    },
     "errors": {
         "FourtouchError": None, "InvalidCircle": None, "InvalidFour": None, "InvalidWord": None,
         "InvalidQuestion": None, "NothingToUndo": None, "NothingToRedo": None, "UnknownName": "(name)",
@@ -58,7 +77,7 @@ INTERFACE = {
         "NameInUse": "(name)",
     },
 }
-LIBRARY = {"math": {"gcd", "isqrt", "lcm"}}
+LIBRARY = {"math": {"gcd", "isqrt", "lcm"}, "heapq": {"heapify", "heappop", "heappush"}}
 BANNED = (
     ast.AsyncFunctionDef, ast.Global, ast.Import, ast.AnnAssign, ast.Div, ast.MatMult, ast.SetComp, ast.Await,
 )
