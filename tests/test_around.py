@@ -2,7 +2,7 @@ import unittest
 from itertools import product
 from math import gcd, isqrt
 
-from fourtouch.around import chain, is_chain, least_around, pairs_to, steps_between
+from fourtouch.around import chain, is_chain, least_around, pairs_to, steps_between, values_up_to
 from fourtouch.circles import touch
 from fourtouch.errors import InvalidQuestion, TooMany
 from fourtouch.fours import Four
@@ -207,6 +207,17 @@ class LeastCircles(unittest.TestCase):
                 found = searched(four, number, max(four.curvatures()))
                 least = found[0][0]
                 self.assertEqual(least_around(four, number), (least, [pair for value, pair in found if value == least]))
+
+    def test_three_least_values(self):
+        # No circle has three least ones around it, but a form may have its least value at three pairs.
+        for form in ((1, 1, 1), (1, -1, 1), (2, 2, 2), (7, 5, 1), (1, 3, 3)):
+            first, middle, last = form
+            values = [(first * p * p + middle * p * q + last * q * q, (p, q)) for p, q in box_pairs(6, 6)]
+            least = min(values)[0]
+            found = sorted((value, told(pair)) for value, pair in values_up_to(form, least, 3))
+            self.assertEqual(found, sorted(row for row in values if row[0] == least))
+            self.assertEqual(len(found), 3)
+            self.assertEqual(error_of(values_up_to, form, least, 2).limit, 2)
 
     def test_kinds(self):
         told_least = least_around(bugeye(), 1)
