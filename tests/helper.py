@@ -89,3 +89,11 @@ def heap_circles(four, length):
     for word in reduced_up_to(length)[1:]:
         found[walked(four, word).circle(word[-1])] = (word, word[-1])
     return found
+
+
+def great_root(n):
+    """A root four with the curvatures -n, n + 1, n * n + n and n * n + n + 1, for n from 2 on."""
+    return Four([
+        (-n, 2 - n, 1 - n, 0), (n + 1, n - 1, n, 0), (n * n + n, n * n - 3 * n + 2, n * n - n - 1, 0),
+        (n * n + n + 1, n * n - 3 * n + 3, n * n - n, 2),
+    ])

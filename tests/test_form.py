@@ -1,6 +1,7 @@
 """The form of the package: the interface stands where it belongs, and the simple rules of the language hold."""
 
 import ast
+import builtins
 import inspect
 import unittest
 from importlib import import_module
@@ -70,6 +71,15 @@ INTERFACE = {
         "Catalogue.four_names": "(self)", "Catalogue.question_names": "(self)", "Catalogue.four": "(self, name)",
         "Catalogue.question": "(self, name)", "Catalogue.answer": "(self, name)", "Catalogue.answers": "(self)",
     },
+    "commands": {
+        "split_words": "(line)", "is_number": "(word)", "word_of": "(words)", "is_command": "(words)",
+    },
+    "session": {"Session": "()", "Session.run": "(self, text)"},
+    "texts": {
+        "word_text": "(word)", "circles_text": "(circles)", "parse_word": "(text)", "parse_circles": "(text)",
+        "heap_text": "(one, other)", "parse_heap": "(text)", "check_heap_text": "(one, other, text)",
+        "place_text": "(four, circle)", "check_place_text": "(four, circle, text)",
+    },
     "errors": {
         "FourtouchError": None, "InvalidCircle": None, "InvalidFour": None, "InvalidWord": None,
         "InvalidQuestion": None, "NothingToUndo": None, "NothingToRedo": None, "UnknownName": "(name)",
@@ -85,6 +95,15 @@ BANNED = (
 
 def package_files():
     return sorted(PACKAGE.glob("*.py"))
+
+
+def defined_names(tree):
+    """The names that a file gives to functions, classes and values."""
+    names = {part.name for part in tree.body if isinstance(part, (ast.FunctionDef, ast.ClassDef))}
+    for part in tree.body:
+        if isinstance(part, ast.Assign):
+            names.update(target.id for target in part.targets)
+    return names
 
 
 def trees():
@@ -142,8 +161,44 @@ class Language(unittest.TestCase):
                         self.assertLessEqual(names, LIBRARY[node.module], path)
                     else:
                         own = ast.parse((PACKAGE / (node.module.removeprefix("fourtouch.") + ".py")).read_text())
-                        defined = {getattr(part, "name", None) for part in own.body}
-                        self.assertLessEqual(names, defined, path)
+                        self.assertLessEqual(names, defined_names(own), path)
+
+    def test_no_two_files_import_from_each_other(self):
+        behind = {
+            path.stem: {node.module.removeprefix("fourtouch.") for node in tree.body
+                        if isinstance(node, ast.ImportFrom) and node.module not in LIBRARY}
+            for path, tree in trees()
+        }
+        while behind:
+            free = [name for name, others in behind.items() if not others & set(behind)]
+            self.assertTrue(free, behind)
+            for name in free:
+                del behind[name]
+
+    def test_no_name_of_a_builtin(self):
+        barred = set(dir(builtins)) - {"__doc__"}
+        for path, tree in trees():
+            for node in ast.walk(tree):
+                names = set()
+                if isinstance(node, (ast.FunctionDef, ast.ClassDef)):
+                    names.add(node.name)
+                if isinstance(node, ast.arg):
+                    names.add(node.arg)
+                if isinstance(node, ast.Name) and isinstance(node.ctx, ast.Store):
+                    names.add(node.id)
+                if isinstance(node, ast.ImportFrom):
+                    names.update(alias.name for alias in node.names)
+                self.assertEqual(names & barred, set(), path)
+
+    def test_no_variable_with_the_name_of_a_class_or_an_import(self):
+        for path, tree in trees():
+            given = {alias.name for node in tree.body if isinstance(node, ast.ImportFrom) for alias in node.names}
+            given |= {node.name for node in tree.body if isinstance(node, ast.ClassDef)}
+            for node in ast.walk(tree):
+                if isinstance(node, ast.arg):
+                    self.assertNotIn(node.arg, given, path)
+                if isinstance(node, ast.Name) and isinstance(node.ctx, ast.Store):
+                    self.assertNotIn(node.id, given, path)
 
     def test_nothing_that_is_barred(self):
         for path, tree in trees():
