@@ -118,17 +118,25 @@ def check_point(point):
             raise InvalidQuestion("the second integer of a fraction is not above 0")
 
 
+def value_at(circle, point):
+    """Return a number that is below 0 inside of a circle, 0 on it, and above 0 outside.
+
+    It is the one by which the sides of a circle are defined, times a square that
+    depends on the point alone, so that it is an integer.
+    """
+    b, c, x, y = circle
+    (p, under_p), (q, under_q) = point
+    p = p * under_q
+    q = q * under_p
+    under = under_p * under_q
+    return b * (p * p + q * q) - 2 * (x * p + y * q) * under + c * under * under
+
+
 def side(circle, point):
     """Return 1 for a point inside of a circle, 0 for one on it, and -1 for one outside."""
     check_circle(circle)
     check_point(point)
-    b, c, x, y = circle
-    (p, under_p), (q, under_q) = point
-    # Brought to one denominator, which is above 0, so that the sign can be seen without fractions.
-    p = p * under_q
-    q = q * under_p
-    under = under_p * under_q
-    value = b * (p * p + q * q) - 2 * (x * p + y * q) * under + c * under * under
+    value = value_at(circle, point)
     if value == 0:
         return 0
     return 1 if value < 0 else -1

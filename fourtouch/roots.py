@@ -1,23 +1,30 @@
 """Roots: what fours are led down to, and papers about the heaps of two fours."""
 
-from fourtouch.walks import curvatures_at, four_at
+from fourtouch.walks import curvatures_at, exchanged_numbers, four_at
 
 
-def is_low(curvatures):
-    """Tell whether the greatest of four curvatures is at most the sum of the others."""
-    return 2 * max(curvatures) <= sum(curvatures)
+def number_above(numbers):
+    """Return the number of the one of four numbers that is above the sum of the three others, or None."""
+    greatest = max(numbers)
+    if 2 * greatest <= sum(numbers):
+        return None
+    return numbers.index(greatest) + 1
+
+
+def led_down(curvatures):
+    """Return the word that leads four curvatures down to those of a root, and these."""
+    word = []
+    number = number_above(curvatures)
+    while number is not None:
+        curvatures = exchanged_numbers(curvatures, number)
+        word.append(number)
+        number = number_above(curvatures)
+    return (tuple(word), curvatures)
 
 
 def way_down(four):
     """Return the word that leads a four down to a root."""
-    curvatures = list(four.curvatures())
-    word = []
-    while not is_low(curvatures):
-        greatest = max(curvatures)
-        at = curvatures.index(greatest)
-        curvatures[at] = 2 * sum(curvatures) - 3 * greatest
-        word.append(at + 1)
-    return tuple(word)
+    return led_down(four.curvatures())[0]
 
 
 def root_of(four):
@@ -30,7 +37,7 @@ def root_of(four):
 
 def root_curvatures(four):
     """Return the curvatures of the root of a four, ascending."""
-    return tuple(sorted(root_of(four).curvatures()))
+    return tuple(sorted(led_down(four.curvatures())[1]))
 
 
 def alike_heaps(one, other):
@@ -53,5 +60,6 @@ def check_heap_paper(one, other, told):
     if word == "alike":
         return curvatures == other_curvatures
     if word == "unlike":
-        return curvatures != other_curvatures and is_low(curvatures) and is_low(other_curvatures)
+        are_roots = number_above(curvatures) is None and number_above(other_curvatures) is None
+        return are_roots and curvatures != other_curvatures
     return False

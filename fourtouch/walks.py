@@ -62,23 +62,31 @@ def check_quadruple(curvatures):
         raise InvalidFour("these integers can be no curvatures of a four")
 
 
-def as_rows(curvatures):
-    """Return four curvatures as rows of one number each."""
-    return tuple([(number,) for number in curvatures])
+def exchanged_numbers(numbers, number):
+    """Return the tuple of four numbers, the curvatures of a four or others of its parts, behind an exchange."""
+    made = 2 * sum(numbers) - 3 * numbers[number - 1]
+    return numbers[:number - 1] + (made,) + numbers[number:]
 
 
-def as_curvatures(rows):
-    """Return the curvatures of rows of one number each."""
-    return tuple([row[0] for row in rows])
+def numbers_at(numbers, word):
+    """Return the tuple of four numbers behind all exchanges of a word."""
+    check_word(word)
+    for number in word:
+        numbers = exchanged_numbers(numbers, number)
+    return numbers
 
 
 def curvatures_at(curvatures, word):
     """Return the tuple of the curvatures of the four at a word."""
     check_quadruple(curvatures)
-    return as_curvatures(rows_at(as_rows(curvatures), word))
+    return numbers_at(tuple(curvatures), word)
 
 
 def curvatures_along(curvatures, word):
     """Return the list of the curvatures at the beginning and behind each exchange of a word."""
     check_quadruple(curvatures)
-    return [as_curvatures(rows) for rows in rows_along(as_rows(curvatures), word)]
+    check_word(word)
+    found = [tuple(curvatures)]
+    for number in word:
+        found.append(exchanged_numbers(found[-1], number))
+    return found

@@ -80,6 +80,28 @@ INTERFACE = {
         "heap_text": "(one, other)", "parse_heap": "(text)", "check_heap_text": "(one, other, text)",
         "place_text": "(four, circle)", "check_place_text": "(four, circle, text)",
     },
+    "moves": {
+        "moved": "(four, s, t)", "turned": "(four, quarters)", "mirrored": "(four)", "put": "(four, way)",
+        "imaged": "(four)", "finer": "(four, factor)", "coarser": "(four, factor)", "way_between": "(four, other)",
+    },
+    "remainders": {
+        "closed_list": "(curvatures, modulus, *, limit=20000)", "check_closed": "(curvatures, modulus, told)",
+        "taken": "(curvatures, modulus, *, limit=20000)", "never": "(curvatures, modulus, *, limit=20000)",
+        "witness": "(curvatures, modulus, remainder, *, limit=20000)",
+        "check_witness": "(curvatures, modulus, remainder, word)",
+        "shows_never": "(curvatures, modulus, remainder, told)",
+    },
+    "missing": {
+        "root_quadruple": "(curvatures)", "common_divisor": "(curvatures)",
+        "standing": "(curvatures, most, *, limit=20000)", "missing": "(curvatures, most, *, limit=20000)",
+        "missing_though_taken": "(curvatures, modulus, most, *, limit=20000)",
+        "least_missing": "(curvatures, modulus, most, *, limit=20000)",
+    },
+    "points": {
+        "touching_point": "(one, other)", "touching_points": "(four)", "is_touching": "(one, other, point)",
+        "gap_circle": "(four, number)", "gap_of": "(four, point)", "way_of": "(four, point, steps)",
+        "place_of": "(four, point, *, limit=1000)", "check_place": "(four, point, told)",
+    },
     "errors": {
         "FourtouchError": None, "InvalidCircle": None, "InvalidFour": None, "InvalidWord": None,
         "InvalidQuestion": None, "NothingToUndo": None, "NothingToRedo": None, "UnknownName": "(name)",
