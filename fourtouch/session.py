@@ -107,14 +107,14 @@ class Session:
 
     def _begin_block(self, name):
         self._block_name = name
-        self._taken = ["four"]
+        self._taken = []
         return ["ok"]
 
     def _end_block(self):
         name = self._block_name
         # Closed ahead of all that may raise an error: the block is closed then, too.
         self._block_name = None
-        four = parse_four("\n".join(self._taken))
+        four = parse_four("\n".join(["four"] + self._taken))
         self.catalogue.set_four(name, four)
         return ["ok"]
 
@@ -138,7 +138,8 @@ class Session:
         except NameInUse as used:
             fault = "name in use " + used.name
         except InvalidNotation as notation:
-            fault = f"invalid notation {notation.line}"
+            # The written form has the line `four` ahead of the lines that were taken, which alone are counted.
+            fault = f"invalid notation {notation.line - 1}"
         except InvalidCircle:
             fault = "invalid circle"
         except InvalidFour:

@@ -7,7 +7,7 @@ from fourtouch.errors import (
     FourtouchError, InvalidQuestion, NameInUse, NothingToRedo, NothingToUndo, UnknownName,
 )
 from fourtouch.fours import Four
-from fourtouch.notation import format_four
+from fourtouch.notation import format_four, parse_four
 from fourtouch.session import Session
 from tests.helper import BUGEYE, LONG_WORD, ROOTS, STRIP, bugeye, error_of, great_root, laid, strip, walked
 from tests.test_catalogue import contents, history
@@ -297,10 +297,10 @@ class Blocks(unittest.TestCase):
         text = BLOCK.replace("\n", "\n\n   \n")
         self.assertEqual(self.session.run("\n\n" + text + "\n\n"), ["ok", "ok"])
         self.assertEqual(self.session.catalogue.four("f").circles, BUGEYE)
-        # Counted are the lines that were taken, and in front the line of the text.
+        # The number at the end counts the lines that were taken, the one in front all lines of the text.
         text = "\nfour h\n\n" + CIRCLES[0] + "\n   \n\ncircle 1\n\nend"
         self.before = history(self.session.catalogue)
-        self.assertEqual(self.session.run(text), ["ok", "line 9: invalid notation 3"])
+        self.assertEqual(self.session.run(text), ["ok", "line 9: invalid notation 2"])
         self.assertEqual(history(self.session.catalogue), self.before)
 
     def test_open_at_the_end_of_a_text(self):
@@ -317,9 +317,9 @@ class Blocks(unittest.TestCase):
 
     def test_numbers_of_lines_in_a_later_call(self):
         self.session.run("\n\nfour f\n" + CIRCLES[0])
-        self.assertEqual(self.session.run("\ncircle\n\nend\nx"), ["line 4: invalid notation 3", "line 5: invalid command"])
+        self.assertEqual(self.session.run("\ncircle\n\nend\nx"), ["line 4: invalid notation 2", "line 5: invalid command"])
         self.session.run("four f\ncircle")
-        self.assertEqual(self.session.run("end"), ["line 1: invalid notation 2"])
+        self.assertEqual(self.session.run("end"), ["line 1: invalid notation 1"])
 
     def test_commands_are_taken_as_lines(self):
         for at in range(5):
@@ -328,20 +328,28 @@ class Blocks(unittest.TestCase):
                 lines = CIRCLES[:at] + [line] + CIRCLES[at:]
                 self.assertEqual(self.session.run("\n".join(["four f"] + lines)), ["ok"])
                 self.assertEqual(history(self.session.catalogue), self.before)
-                self.assert_refused("end", f"line 1: invalid notation {at + 2}")
+                self.assert_refused("end", f"line 1: invalid notation {at + 1}")
 
     def test_faults_of_the_form_at_each_line(self):
         for at in range(1, 5):
             for fault in NO_LINES:
                 changed = list(CIRCLES)
                 changed[at - 1] = fault
-                self.assert_refused("\n".join(["four f"] + changed + ["end"]), f"line 6: invalid notation {at + 1}")
+                self.assert_refused("\n".join(["four f"] + changed + ["end"]), f"line 6: invalid notation {at}")
                 added = CIRCLES[:at] + [fault] + CIRCLES[at:]
-                self.assert_refused("\n".join(["four f"] + added + ["end"]), f"line 7: invalid notation {at + 2}")
+                self.assert_refused("\n".join(["four f"] + added + ["end"]), f"line 7: invalid notation {at + 1}")
+
+    def test_the_line_four_is_not_counted(self):
+        lines = ["circle 13 21 7 -15", "circle -3 -3 -1 3", "circle 4 4 1 -4 1", "circle 12 16 7 -12"]
+        self.assert_refused("\n".join(["four q6d"] + lines + ["end"]), "line 6: invalid notation 3")
+        self.assert_refused("four a\ncircle 1\nend", "line 3: invalid notation 1")
+        # Reading the same text counts all of its lines.
+        self.assertEqual(error_of(parse_four, "\n".join(["four"] + lines)).line, 4)
+        self.assertEqual(error_of(parse_four, "four\ncircle 1").line, 2)
 
     def test_the_first_faulty_line_counts(self):
-        self.assert_refused("four f\ncircle 1 1 1 2\nx\ncircle\nend", "line 5: invalid notation 3")
-        self.assert_refused("four f\nx\n\ny\nend", "line 5: invalid notation 2")
+        self.assert_refused("four f\ncircle 1 1 1 2\nx\ncircle\nend", "line 5: invalid notation 2")
+        self.assert_refused("four f\nx\n\ny\nend", "line 5: invalid notation 1")
 
     def test_digits(self):
         for sign in ("", "-"):
@@ -349,14 +357,14 @@ class Blocks(unittest.TestCase):
             self.assert_refused(text + "\nend", "line 4: invalid four")
             text = "four f\n" + "\n".join(CIRCLES[:3]) + "\ncircle 2 0 1 " + sign + "1" * 200
             self.assert_refused(text + "\nend", "line 6: invalid circle")
-            self.assert_refused(text + "1\nend", "line 6: invalid notation 5")
+            self.assert_refused(text + "1\nend", "line 6: invalid notation 4")
         four = laid(bugeye(), 0, 0, 2 * 10 ** 99, 0)
         self.assertEqual(max(len(str(abs(part))) for circle in four.circles for part in circle), 200)
         self.assertEqual(self.session.run(block_text("f", four)), ["ok", "ok"])
         self.assertEqual(self.session.run("print f"), format_four(four).split("\n"))
         self.before = history(self.session.catalogue)
         four = laid(bugeye(), 0, 0, 6 * 10 ** 99, 0)
-        self.assertEqual(self.session.run(block_text("h", four)), ["ok", "line 6: invalid notation 5"])
+        self.assertEqual(self.session.run(block_text("h", four)), ["ok", "line 6: invalid notation 4"])
         self.assertEqual(history(self.session.catalogue), self.before)
 
     def test_another_number_of_circles(self):
@@ -380,7 +388,7 @@ class Blocks(unittest.TestCase):
         for four in (bugeye(), strip()):
             self.assert_refused(block_text("g", four), "line 6: name in use g")
         # The four is parsed first, and the name is looked at behind it.
-        self.assert_refused("four g\nx\nend", "line 3: invalid notation 2")
+        self.assert_refused("four g\nx\nend", "line 3: invalid notation 1")
         self.assert_refused("four g\nend", "line 2: invalid four")
         lines = ["four g", "circle 1 1 1 2"] + CIRCLES[1:] + ["end"]
         self.assert_refused("\n".join(lines), "line 6: invalid circle")
@@ -397,7 +405,7 @@ class Blocks(unittest.TestCase):
 
     def test_blocks_behind_a_refused_one(self):
         text = "four f\ncircle\nend\n" + BLOCK + "\nfours"
-        self.assertEqual(self.session.run(text), ["ok", "line 3: invalid notation 2", "ok", "ok", "fours: f g"])
+        self.assertEqual(self.session.run(text), ["ok", "line 3: invalid notation 1", "ok", "ok", "fours: f g"])
         self.assertEqual(self.session.catalogue.four("f").circles, BUGEYE)
 
     def test_the_end_with_spaces_and_with_a_word(self):
@@ -407,7 +415,7 @@ class Blocks(unittest.TestCase):
         for line in ("end f", "end end", "End", "END", "end.", "end\t", "\tend", "ends"):
             session = Session()
             self.assertEqual(session.run("\n".join(["four f"] + CIRCLES + [line])), ["ok"])
-            self.assertEqual(session.run("end"), ["line 1: invalid notation 6"])
+            self.assertEqual(session.run("end"), ["line 1: invalid notation 5"])
 
 
 class Errors(unittest.TestCase):
@@ -423,7 +431,7 @@ class Errors(unittest.TestCase):
             "line 1: nothing to redo", "line 2: unknown name h", "line 3: name in use f", "line 4: unknown name h",
             "line 5: unknown name h", "line 6: unknown name h", "line 7: unknown name h", "line 8: unknown name h",
             "line 9: invalid question", "ok", "line 15: name in use f", "ok", "line 17: invalid four", "ok",
-            "line 23: invalid circle", "ok", "line 26: invalid notation 2", "line 27: invalid command",
+            "line 23: invalid circle", "ok", "line 26: invalid notation 1", "line 27: invalid command",
             "ok", "ok", "ok", "ok", "ok", "line 33: nothing to undo",
         ])
 
